@@ -1,0 +1,59 @@
+package funnel
+
+import "funnel/api"
+
+// noSeq stands below every number that an event may have.
+const noSeq = -1
+
+// source: idle says nothing of one that is not in, so it is false there.
+type source struct {
+	in, idle bool
+	mark     int
+	silence  int
+	last     int // the greatest number that Push took
+}
+
+func (x *Engine) has(s int) bool {
+	return s >= 0 && s < len(x.sources)
+}
+
+// checkIn tells the error of a call that needs a source that is in.
+func (x *Engine) checkIn(s int) api.Errno {
+	if !x.has(s) {
+		return api.ErrSource
+	}
+	if !x.sources[s].in {
+		return api.ErrState
+	}
+	return api.OK
+}
+
+func (x *Engine) touch(s int) {
+	x.sources[s].silence = 0
+	if x.sources[s].idle {
+		x.activate(s)
+	}
+}
+
+// activate brings the mark up to the merged one, which could go on without this source and never falls.
+func (x *Engine) activate(s int) {
+	x.sources[s].idle = false
+	x.sources[s].silence = 0
+	x.raise(s, x.merged)
+}
+
+func (x *Engine) raise(s int, mark int) {
+	if x.sources[s].mark < mark {
+		x.sources[s].mark = mark
+	}
+}
+
+func (x *Engine) waitingOf(s int) int {
+	n := 0
+	for _, e := range x.waiting {
+		if e.Src == s {
+			n++
+		}
+	}
+	return n
+}
