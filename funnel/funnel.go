@@ -102,10 +102,40 @@ func (x *Engine) Punct(s int, ts int) api.Errno {
 }
 
 // Tick lets time go by (P7).
-func (x *Engine) Tick(n int) api.Errno { return api.OK }
+func (x *Engine) Tick(n int) api.Errno {
+	if !within(n, 1, api.MaxIdle) {
+		return api.ErrArg
+	}
+	for s := range x.sources {
+		if x.sources[s].in {
+			x.hush(s, n)
+		}
+	}
+	x.settle()
+	return api.OK
+}
 
 // Feed takes bytes of lines (P8).
-func (x *Engine) Feed(s int, text string) (api.Fed, api.Errno) { return api.Fed{}, api.OK }
+func (x *Engine) Feed(s int, text string) (api.Fed, api.Errno) {
+	if len(text) > api.MaxChunk {
+		return api.Fed{}, api.ErrArg
+	}
+	if !x.has(s) {
+		return api.Fed{}, api.ErrSource
+	}
+	fed := api.Fed{}
+	for i := 0; i < len(text); i++ {
+		if text[i] != lineEnd {
+			x.keep(s, text[i])
+			continue
+		}
+		one := x.takeLine(s)
+		fed.Good += one.Good
+		fed.Refused += one.Refused
+		fed.Bad += one.Bad
+	}
+	return fed, api.OK
+}
 
 // Mark tells the merged mark (P9).
 func (x *Engine) Mark() int {

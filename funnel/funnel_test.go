@@ -123,6 +123,9 @@ func TestExamples(t *testing.T) {
 	hasMark(t, x, 30)
 	hasEvents(t, "Log()", x.Log(), event(0, 2, 9, 'C', 0), event(0, 0, 10, 'A', 1))
 
+	answers(t, "Tick", x.Tick(5), api.OK)
+	hasSource(t, x, 1, api.Source{In: true, Idle: true, Mark: 30, Last: -1})
+	hasMark(t, x, 30)
 	answers(t, "Push, late", x.Push(1, event(0, 0, 29, 'D', 0)), api.OK)
 	hasEvents(t, "Late()", x.Late(), event(0, 1, 7, 'B', 0), event(1, 0, 29, 'D', 0))
 	answers(t, "Push", x.Push(1, event(0, 1, 40, 'D', 0)), api.OK)
@@ -552,7 +555,7 @@ func TestEnginesShareNothing(t *testing.T) {
 func TestNoCallPanics(t *testing.T) {
 	wild := []int{math.MinInt, -most - 1, -most, -1, 0, 1, 5, 'A', most, most + 1, math.MaxInt}
 	for _, policy := range []int{api.Drop, api.Side, api.Lift} {
-		x := engine(t, api.Config{Sources: api.MaxSources, Policy: policy, Room: 1})
+		x := engine(t, api.Config{Sources: api.MaxSources, Policy: policy, Room: 1, Idle: 1})
 		for _, s := range wild {
 			x.Join(s)
 			for _, a := range wild {
@@ -563,9 +566,11 @@ func TestNoCallPanics(t *testing.T) {
 				}
 				x.Source(a)
 			}
-			x.Leave(s)
+			x.Feed(s, "E 0 0 A 0\nP 0\n\x00\n\nE -9999999999999 9999999999999 A 0\nP")
 			x.Tick(s)
-			x.Feed(s, "\x00\n")
+			x.Punct(s, 0)
+			x.Tick(1)
+			x.Leave(s)
 		}
 		x.Mark()
 		x.Log()

@@ -1,132 +1,24 @@
-package funnel
+package funnel_test
 
 import (
 	"cmp"
 	"fmt"
+	"regexp"
 	"slices"
+	"strconv"
+	"strings"
 	"testing"
 
 	"funnel/api"
+	"funnel/funnel"
 )
-
-// fallIdle does to a source that is in what its silence would do.
-func fallIdle(x *Engine, s int) {
-	x.sources[s].idle = true
-	x.sources[s].silence = x.config.Idle
-	x.settle()
-}
-
-func TestIdleSource(t *testing.T) {
-	for _, policy := range []int{api.Drop, api.Side, api.Lift} {
-		x, _ := New(api.Config{Sources: 2, Slack: 2, Policy: policy, Room: 4, Idle: 5})
-		x.Join(0)
-		x.Join(1)
-		x.Punct(0, 10)
-		x.Punct(1, 30)
-		fallIdle(x, 0)
-		if k, _ := x.Source(0); k != (api.Source{In: true, Idle: true, Mark: 10, Last: -1}) || x.Mark() != 30 {
-			t.Errorf("P9: Source(0) = %+v, Mark() = %d", k, x.Mark())
-		}
-		// Above its own mark, but below the merged one: late.
-		if err := x.Push(0, api.Event{Ts: 29, Kind: 'A'}); err != api.OK {
-			t.Errorf("P6: Push: %d", err)
-		}
-		want := api.Source{In: true, Mark: 30, Waiting: []int{0, 0, 1}[policy], Last: 0}
-		if k, _ := x.Source(0); k != want || x.sources[0].silence != 0 || x.Mark() != 30 {
-			t.Errorf("P6: touched by Push: %+v, want %+v", k, want)
-		}
-		if late := x.Late(); len(late) != []int{0, 1, 0}[policy] {
-			t.Errorf("P6: Late() = %v", late)
-		}
-	}
-}
-
-func TestIdleSourceIsTouched(t *testing.T) {
-	for name, c := range map[string]struct {
-		call func(x *Engine) api.Errno
-		mark int
-	}{
-		"Punct below":    {func(x *Engine) api.Errno { return x.Punct(0, 5) }, 30},
-		"Punct above":    {func(x *Engine) api.Errno { return x.Punct(0, 40) }, 40},
-		"Push":           {func(x *Engine) api.Errno { return x.Push(0, api.Event{Ts: 30, Kind: 'A'}) }, 30},
-		"Push above":     {func(x *Engine) api.Errno { return x.Push(0, api.Event{Ts: 40, Kind: 'A'}) }, 38},
-		"Leave and Join": {func(x *Engine) api.Errno { x.Leave(0); return x.Join(0) }, 30},
-	} {
-		x, _ := New(api.Config{Sources: 2, Slack: 2, Room: 4, Idle: 5})
-		x.Join(0)
-		x.Join(1)
-		x.Punct(1, 30)
-		fallIdle(x, 0)
-		if err := c.call(x); err != api.OK {
-			t.Errorf("%s: %d", name, err)
-		}
-		if k, _ := x.Source(0); k.Idle || !k.In || k.Mark != c.mark || x.sources[0].silence != 0 {
-			t.Errorf("%s: %+v, want the mark %d", name, k, c.mark)
-		}
-	}
-}
-
-func TestSilenceEnds(t *testing.T) {
-	for name, call := range map[string]func(x *Engine) api.Errno{
-		"Punct":          func(x *Engine) api.Errno { return x.Punct(0, 5) },
-		"Push":           func(x *Engine) api.Errno { return x.Push(0, api.Event{Ts: 90, Kind: 'A'}) },
-		"Push, late":     func(x *Engine) api.Errno { return x.Push(0, api.Event{Ts: 1, Kind: 'A'}) },
-		"Leave and Join": func(x *Engine) api.Errno { x.Leave(0); return x.Join(0) },
-	} {
-		x, _ := New(api.Config{Sources: 1, Room: 4, Idle: 5})
-		x.Join(0)
-		x.Punct(0, 10)
-		x.sources[0].silence = 3
-		if err := call(x); err != api.OK || x.sources[0].silence != 0 {
-			t.Errorf("%s: %d, the silence is %d", name, err, x.sources[0].silence)
-		}
-	}
-}
-
-func TestErrorDoesNotTouch(t *testing.T) {
-	x, _ := New(api.Config{Sources: 2, Room: 1, Idle: 5})
-	x.Join(0)
-	x.Join(1)
-	x.Punct(1, 30)
-	x.Push(0, api.Event{Ts: 90, Kind: 'A'})
-	fallIdle(x, 0)
-	for name, err := range map[string]api.Errno{
-		"a time":  x.Punct(0, api.MaxTime+1),
-		"a kind":  x.Push(0, api.Event{Seq: 1}),
-		"a Seq":   x.Push(0, api.Event{Seq: 0, Kind: 'A', Ts: 90}),
-		"no room": x.Push(0, api.Event{Seq: 1, Kind: 'A', Ts: 90}),
-	} {
-		if k, _ := x.Source(0); err == api.OK || !k.Idle || k.Last != 0 || x.sources[0].silence != 5 {
-			t.Errorf("P1: %s: %d, %+v", name, err, k)
-		}
-	}
-}
-
-func TestLeaveOfAnIdleSource(t *testing.T) {
-	x, _ := New(api.Config{Sources: 1, Room: 1, Idle: 5})
-	x.Join(0)
-	fallIdle(x, 0)
-	x.Leave(0)
-	if k, _ := x.Source(0); k != (api.Source{Mark: api.Least, Last: -1}) {
-		t.Errorf("P9: Source(0) = %+v", k)
-	}
-}
-
-func TestAllIdleLetsAllGo(t *testing.T) {
-	x, _ := New(api.Config{Sources: 1, Slack: 9, Room: 4, Idle: 5})
-	x.Join(0)
-	x.Push(0, api.Event{Seq: 0, Ts: 10, Kind: 'A'})
-	x.Push(0, api.Event{Seq: 1, Ts: 8, Kind: 'A'})
-	fallIdle(x, 0)
-	if x.Mark() != 11 || len(x.Log()) != 2 {
-		t.Errorf("settling: Mark() = %d, Log() = %v", x.Mark(), x.Log())
-	}
-}
 
 // model: the document's words, with sorting and counting anew at every step.
 type model struct {
 	c             api.Config
 	sources       []api.Source
+	silence       []int
+	rest          []string // of Feed, no whole line yet
 	merged        int
 	wait, log, by []api.Event
 }
@@ -136,6 +28,8 @@ func newModel(c api.Config) *model {
 	for range c.Sources {
 		m.sources = append(m.sources, api.Source{Mark: api.Least, Last: -1})
 	}
+	m.silence = make([]int, c.Sources)
+	m.rest = make([]string, c.Sources)
 	return m
 }
 
@@ -169,6 +63,7 @@ func (m *model) settle() {
 }
 
 func (m *model) touch(s int) {
+	m.silence[s] = 0
 	if m.sources[s].Idle {
 		m.sources[s].Idle = false
 		m.sources[s].Mark = max(m.sources[s].Mark, m.merged)
@@ -180,6 +75,7 @@ func (m *model) join(s int) api.Errno {
 		return api.ErrState
 	}
 	m.sources[s].In = true
+	m.silence[s] = 0
 	m.sources[s].Mark = max(m.sources[s].Mark, m.merged)
 	m.settle()
 	return api.OK
@@ -198,6 +94,9 @@ func (m *model) punct(s, ts int) api.Errno {
 	if !m.sources[s].In {
 		return api.ErrState
 	}
+	if ts < -most || ts > most {
+		return api.ErrTime
+	}
 	m.touch(s)
 	m.sources[s].Mark = max(m.sources[s].Mark, ts)
 	m.settle()
@@ -208,6 +107,12 @@ func (m *model) push(s int, e api.Event) api.Errno {
 	k := &m.sources[s]
 	if !k.In {
 		return api.ErrState
+	}
+	if e.Seq < 0 || e.Seq > most || e.Kind < 'A' || e.Kind > 'Z' || e.Val < -most || e.Val > most {
+		return api.ErrEvent
+	}
+	if e.Ts < -most || e.Ts > most {
+		return api.ErrTime
 	}
 	if e.Seq <= k.Last {
 		return api.ErrSeq
@@ -240,6 +145,61 @@ func (m *model) push(s int, e api.Event) api.Errno {
 	return api.OK
 }
 
+func (m *model) tick(n int) api.Errno {
+	if n < 1 || n > api.MaxIdle {
+		return api.ErrArg
+	}
+	for s := range m.sources {
+		if !m.sources[s].In {
+			continue
+		}
+		m.silence[s] += n
+		if m.c.Idle > 0 && m.silence[s] >= m.c.Idle {
+			m.sources[s].Idle = true
+		}
+	}
+	m.settle()
+	return api.OK
+}
+
+var (
+	pushLine  = regexp.MustCompile(`^E (-?[0-9]{1,13}) (-?[0-9]{1,13}) ([A-Z]) (-?[0-9]{1,13})$`)
+	punctLine = regexp.MustCompile(`^P (-?[0-9]{1,13})$`)
+)
+
+func (m *model) feed(s int, text string) (api.Fed, api.Errno) {
+	if len(text) > api.MaxChunk {
+		return api.Fed{}, api.ErrArg
+	}
+	var f api.Fed
+	lines := strings.Split(m.rest[s]+text, "\n")
+	m.rest[s] = lines[len(lines)-1]
+	for _, line := range lines[:len(lines)-1] {
+		push, punct := pushLine.FindStringSubmatch(line), punctLine.FindStringSubmatch(line)
+		err := api.OK
+		switch {
+		case len(line) > api.MaxLine || push == nil && punct == nil:
+			f.Bad++
+			continue
+		case push != nil:
+			err = m.push(s, api.Event{Seq: number(push[1]), Ts: number(push[2]), Kind: int(push[3][0]), Val: number(push[4])})
+		default:
+			err = m.punct(s, number(punct[1]))
+		}
+		if err == api.OK {
+			f.Good++
+		} else {
+			f.Refused++
+		}
+	}
+	return f, api.OK
+}
+
+func number(text string) int {
+	n, _ := strconv.Atoi(text)
+	return n
+}
+
 // dice: the same numbers at every run.
 type dice uint64
 
@@ -249,7 +209,7 @@ func (d *dice) below(n int) int {
 }
 
 // differs tells what the engine and the model do not agree on.
-func differs(x *Engine, m *model) string {
+func differs(x *funnel.Engine, m *model) string {
 	for s := range m.sources {
 		if k, err := x.Source(s); k != m.sources[s] || err != api.OK {
 			return fmt.Sprintf("Source(%d) = %+v, %d, want %+v", s, k, err, m.sources[s])
@@ -267,42 +227,83 @@ func differs(x *Engine, m *model) string {
 	return ""
 }
 
-// step makes one call of both, and tells it and both answers.
-func step(d *dice, x *Engine, m *model, near int) (string, api.Errno, api.Errno) {
-	s := d.below(m.c.Sources)
-	switch d.below(20) {
-	case 0, 1:
-		return fmt.Sprintf("Join(%d)", s), x.Join(s), m.join(s)
+func (d *dice) event(m *model, s, near int) api.Event {
+	return api.Event{Src: d.below(9) - 4, Seq: max(0, m.sources[s].Last+d.below(4)), Ts: near + d.below(14) - 7, Kind: 'A' + d.below(26), Val: d.below(9)}
+}
+
+// line has a form that is known, but now and then a fault.
+func (d *dice) line(m *model, s, near int) string {
+	e := d.event(m, s, near)
+	text := fmt.Sprintf("E %d %d %c %d\n", e.Seq, e.Ts, e.Kind, e.Val)
+	if d.below(4) == 0 {
+		text = fmt.Sprintf("P %d\n", e.Ts)
+	}
+	at := d.below(len(text))
+	switch d.below(12) {
+	case 0:
+		return text[:at] + text[at+1:]
+	case 1:
+		return text[:at] + string("09-- \nAEP\x00"[d.below(10)]) + text[at:]
 	case 2:
-		return fmt.Sprintf("Leave(%d)", s), x.Leave(s), m.leave(s)
+		return text[:at]
+	case 3:
+		return text[at:]
+	case 4:
+		return strings.Repeat("0", d.below(3*api.MaxLine)) + text
+	case 5:
+		return strings.Replace(text, " ", " "+strings.Repeat("0", d.below(14)), 1+d.below(2))
+	case 6:
+		return fmt.Sprintf("P %d\n", most-2+d.below(5)-(d.below(2)*2*most))
+	}
+	return text
+}
+
+func (d *dice) text(m *model, s, near int) string {
+	text := ""
+	for range d.below(4) {
+		text += d.line(m, s, near)
+	}
+	if d.below(200) == 0 {
+		text += strings.Repeat(" ", api.MaxChunk)
+	}
+	return text
+}
+
+// step makes one call of both, and tells it and both answers.
+func step(d *dice, x *funnel.Engine, m *model, near int) (what, got, want string) {
+	s := d.below(m.c.Sources)
+	switch d.below(24) {
+	case 0, 1:
+		return fmt.Sprintf("Join(%d)", s), fmt.Sprint(x.Join(s)), fmt.Sprint(m.join(s))
+	case 2:
+		return fmt.Sprintf("Leave(%d)", s), fmt.Sprint(x.Leave(s)), fmt.Sprint(m.leave(s))
 	case 3, 4, 5:
 		ts := near + d.below(12) - 6
-		return fmt.Sprintf("Punct(%d, %d)", s, ts), x.Punct(s, ts), m.punct(s, ts)
-	case 6:
-		if m.sources[s].In {
-			fallIdle(x, s)
-			m.sources[s].Idle = true
-			m.settle()
-		}
-		return fmt.Sprintf("idle %d", s), api.OK, api.OK
+		return fmt.Sprintf("Punct(%d, %d)", s, ts), fmt.Sprint(x.Punct(s, ts)), fmt.Sprint(m.punct(s, ts))
+	case 6, 7, 8:
+		n := d.below(4)
+		return fmt.Sprintf("Tick(%d)", n), fmt.Sprint(x.Tick(n)), fmt.Sprint(m.tick(n))
+	case 9, 10, 11:
+		text := d.text(m, s, near)
+		return fmt.Sprintf("Feed(%d, %q)", s, text), fmt.Sprint(x.Feed(s, text)), fmt.Sprint(m.feed(s, text))
 	}
-	e := api.Event{Src: d.below(9) - 4, Seq: max(0, m.sources[s].Last+d.below(4)), Ts: near + d.below(14) - 7, Kind: 'A' + d.below(26), Val: d.below(9)}
-	return fmt.Sprintf("Push(%d, %v)", s, e), x.Push(s, e), m.push(s, e)
+	e := d.event(m, s, near)
+	return fmt.Sprintf("Push(%d, %v)", s, e), fmt.Sprint(x.Push(s, e)), fmt.Sprint(m.push(s, e))
 }
 
 func TestAgainstTheModel(t *testing.T) {
 	var d dice
 	for round := range 600 {
-		c := api.Config{Sources: 1 + d.below(api.MaxSources), Slack: d.below(6), Policy: round % 3, Room: 1 + d.below(8), Idle: 5}
-		x, err := New(c)
+		c := api.Config{Sources: 1 + d.below(api.MaxSources), Slack: d.below(6), Policy: round % 3, Room: 1 + d.below(8), Idle: d.below(12)}
+		x, err := funnel.New(c)
 		if err != api.OK {
 			t.Fatalf("New(%+v): %d", c, err)
 		}
 		m := newModel(c)
 		for n := range 500 {
-			what, err, want := step(&d, x, m, n/4)
-			if err != want {
-				t.Fatalf("%+v, call %d: %s: %d, want %d", c, n, what, err, want)
+			what, got, want := step(&d, x, m, n/4)
+			if got != want {
+				t.Fatalf("%+v, call %d: %s: %s, want %s", c, n, what, got, want)
 			}
 			if text := differs(x, m); text != "" {
 				t.Fatalf("%+v, call %d: behind %s: %s", c, n, what, text)

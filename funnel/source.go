@@ -9,8 +9,9 @@ const noSeq = -1
 type source struct {
 	in, idle bool
 	mark     int
-	silence  int
-	last     int // the greatest number that Push took
+	silence  int    // at most MaxIdle
+	last     int    // the greatest number that Push took
+	line     []byte // of Feed, not whole yet
 }
 
 func (x *Engine) has(s int) bool {
@@ -40,6 +41,18 @@ func (x *Engine) activate(s int) {
 	x.sources[s].idle = false
 	x.sources[s].silence = 0
 	x.raise(s, x.merged)
+}
+
+// hush counts up to MaxIdle alone: a longer silence says nothing more.
+func (x *Engine) hush(s int, n int) {
+	silence := x.sources[s].silence + n
+	if silence > api.MaxIdle {
+		silence = api.MaxIdle
+	}
+	x.sources[s].silence = silence
+	if x.config.Idle > 0 && silence >= x.config.Idle {
+		x.sources[s].idle = true
+	}
 }
 
 func (x *Engine) raise(s int, mark int) {
