@@ -8,7 +8,8 @@ import (
 
 // Engine: sources, what waits, what was let go.
 type Engine struct {
-	config  api.Config
+	config  api.Config // without the text of the pattern
+	pattern patterns.Pattern
 	sources []source
 	merged  int
 	waiting []api.Event // in the events' order
@@ -26,11 +27,12 @@ func New(c api.Config) (*Engine, api.Errno) {
 	if !isConfig(c) {
 		return nil, api.ErrConfig
 	}
-	fault, _ := patterns.Check(c.Pattern)
+	pattern, fault, _ := patterns.Read(c.Pattern)
 	if fault != api.OK {
 		return nil, api.ErrPattern
 	}
-	x := Engine{config: c, merged: api.Least}
+	c.Pattern = "" // it is the caller's, and not kept
+	x := Engine{config: c, pattern: pattern, merged: api.Least}
 	for len(x.sources) < c.Sources {
 		x.sources = append(x.sources, source{mark: api.Least, last: noSeq})
 	}
@@ -163,4 +165,6 @@ func (x *Engine) Late() []api.Event {
 }
 
 // Matches tells the matches of the pattern (P10).
-func (x *Engine) Matches() ([][]int, bool) { return nil, false }
+func (x *Engine) Matches() ([][]int, bool) {
+	return x.pattern.Find(x.log)
+}

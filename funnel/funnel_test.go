@@ -75,6 +75,8 @@ type state struct {
 	mark      int
 	sources   [api.MaxSources]api.Source
 	log, late []api.Event
+	matches   [][]int
+	more      bool
 }
 
 func stateOf(x *funnel.Engine) state {
@@ -82,6 +84,7 @@ func stateOf(x *funnel.Engine) state {
 	for s := range k.sources {
 		k.sources[s], _ = x.Source(s)
 	}
+	k.matches, k.more = x.Matches()
 	return k
 }
 
@@ -530,14 +533,24 @@ func TestListsAreFresh(t *testing.T) {
 }
 
 func TestAskingChangesNothing(t *testing.T) {
-	x := engine(t, example, 0, 1)
-	pushes(t, x, 0, 0, 10, api.OK)
-	pushes(t, x, 0, 1, 5, api.OK)
+	k := example
+	k.Pattern = "A!BA=@10"
+	x := engine(t, k, 0, 1)
+	for i := range 4 {
+		pushes(t, x, 0, i, 10, api.OK)
+	}
+	pushes(t, x, 0, 4, 5, api.OK)
+	puncts(t, x, 0, 12)
 	puncts(t, x, 1, 11)
+	pushes(t, x, 0, 5, 13, api.OK)
 	once := stateOf(x)
-	x.Matches()
-	if twice := stateOf(x); !reflect.DeepEqual(once, twice) {
-		t.Errorf("P2: %+v became %+v", once, twice)
+	if len(once.log) != 4 || len(once.late) != 1 || len(once.matches) != 6 || once.sources[0].Waiting != 1 {
+		t.Errorf("P2: %+v", once)
+	}
+	for range 3 {
+		if again := stateOf(x); !reflect.DeepEqual(once, again) {
+			t.Errorf("P2: %+v became %+v", once, again)
+		}
 	}
 }
 
@@ -555,7 +568,7 @@ func TestEnginesShareNothing(t *testing.T) {
 func TestNoCallPanics(t *testing.T) {
 	wild := []int{math.MinInt, -most - 1, -most, -1, 0, 1, 5, 'A', most, most + 1, math.MaxInt}
 	for _, policy := range []int{api.Drop, api.Side, api.Lift} {
-		x := engine(t, api.Config{Sources: api.MaxSources, Policy: policy, Room: 1, Idle: 1})
+		x := engine(t, api.Config{Sources: api.MaxSources, Policy: policy, Room: 1, Idle: 1, Pattern: "A!BA!CA=@1099511627776"})
 		for _, s := range wild {
 			x.Join(s)
 			for _, a := range wild {

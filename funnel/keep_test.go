@@ -9,7 +9,10 @@ import (
 
 // What an engine keeps does not grow with what it was told.
 func TestKeepsNoMoreThanItNeeds(t *testing.T) {
-	x, _ := New(api.Config{Sources: 1, Room: 1})
+	x, _ := New(api.Config{Sources: 1, Room: 1, Pattern: "A@0"})
+	if x.config.Pattern != "" {
+		t.Errorf("the text %q of a pattern", x.config.Pattern)
+	}
 	x.Join(0)
 	for range 100 {
 		x.Feed(0, strings.Repeat("x", api.MaxChunk))

@@ -11,11 +11,13 @@ import (
 
 	"funnel/api"
 	"funnel/funnel"
+	"funnel/patterns"
 )
 
 // model: the document's words, with sorting and counting anew at every step.
 type model struct {
 	c             api.Config
+	pattern       patterns.Pattern
 	sources       []api.Source
 	silence       []int
 	rest          []string // of Feed, no whole line yet
@@ -28,6 +30,7 @@ func newModel(c api.Config) *model {
 	for range c.Sources {
 		m.sources = append(m.sources, api.Source{Mark: api.Least, Last: -1})
 	}
+	m.pattern, _, _ = patterns.Read(c.Pattern)
 	m.silence = make([]int, c.Sources)
 	m.rest = make([]string, c.Sources)
 	return m
@@ -224,11 +227,21 @@ func differs(x *funnel.Engine, m *model) string {
 	if !slices.Equal(x.Late(), m.by) {
 		return fmt.Sprintf("Late() = %v, want %v", x.Late(), m.by)
 	}
+	list, more := x.Matches()
+	wantList, wantMore := m.pattern.Find(m.log)
+	if !sameLists(list, wantList) || more != wantMore {
+		return fmt.Sprintf("Matches() = %v, %t, want %v, %t", list, more, wantList, wantMore)
+	}
 	return ""
 }
 
+func (d *dice) pattern() string {
+	all := []string{"", "A@0", "AB@3", "A!BA@9", "AA=@5", "A!BC=@20", "ABC@6", "A!CB!CA@40", "A!BA!CA=@1099511627776"}
+	return all[d.below(len(all))]
+}
+
 func (d *dice) event(m *model, s, near int) api.Event {
-	return api.Event{Src: d.below(9) - 4, Seq: max(0, m.sources[s].Last+d.below(4)), Ts: near + d.below(14) - 7, Kind: 'A' + d.below(26), Val: d.below(9)}
+	return api.Event{Src: d.below(9) - 4, Seq: max(0, m.sources[s].Last+d.below(4)), Ts: near + d.below(14) - 7, Kind: 'A' + d.below(1+d.below(26)), Val: d.below(5)}
 }
 
 // line has a form that is known, but now and then a fault.
@@ -294,7 +307,7 @@ func step(d *dice, x *funnel.Engine, m *model, near int) (what, got, want string
 func TestAgainstTheModel(t *testing.T) {
 	var d dice
 	for round := range 600 {
-		c := api.Config{Sources: 1 + d.below(api.MaxSources), Slack: d.below(6), Policy: round % 3, Room: 1 + d.below(8), Idle: d.below(12)}
+		c := api.Config{Sources: 1 + d.below(api.MaxSources), Slack: d.below(6), Policy: round % 3, Room: 1 + d.below(8), Idle: d.below(12), Pattern: d.pattern()}
 		x, err := funnel.New(c)
 		if err != api.OK {
 			t.Fatalf("New(%+v): %d", c, err)

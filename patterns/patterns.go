@@ -1,4 +1,4 @@
-// Package patterns: which bytes are a pattern.
+// Package patterns: which bytes are a pattern, and where a log matches it.
 package patterns
 
 import "funnel/api"
@@ -6,7 +6,7 @@ import "funnel/api"
 // What stands just ahead of a byte: it decides what the byte may be.
 const (
 	nothing    = 0
-	step       = 1
+	stepKind   = 1
 	barSign    = 2 // the "!" ahead of the kind that may not stand between
 	barredKind = 3
 	sameSign   = 4 // the "="
@@ -14,30 +14,52 @@ const (
 	digit      = 6
 )
 
-// reader: what the bytes so far leave to the next one.
-type reader struct {
-	ahead  int
-	steps  int
-	digits int
+// noKind is the kind of no event.
+const noKind = 0
+
+// Pattern: what the bytes ask for. One without steps is matched by nothing.
+type Pattern struct {
+	steps  []step
+	same   bool
 	window int
+}
+
+// step: barred is the kind that may not stand between it and the step ahead of it.
+type step struct {
+	kind   int
+	barred int
+}
+
+// reader: what the bytes so far are, and what they leave to the next one.
+type reader struct {
+	ahead   int
+	barred  int
+	digits  int
+	pattern Pattern
 }
 
 // Check tells whether text is a pattern, and where it is not (P3).
 func Check(text string) (api.Errno, int) {
+	_, fault, place := Read(text)
+	return fault, place
+}
+
+// Read tells the pattern that text is, or the error and the place that Check tells.
+func Read(text string) (Pattern, api.Errno, int) {
 	if len(text) > api.MaxPattern {
-		return api.ErrArg, 0
+		return Pattern{}, api.ErrArg, 0
 	}
 	r := reader{}
 	for i := 0; i < len(text); i++ {
 		stands := r.take(text[i])
 		if !stands {
-			return api.ErrPattern, i
+			return Pattern{}, api.ErrPattern, i
 		}
 	}
 	if r.ahead != nothing && r.ahead != digit {
-		return api.ErrPattern, len(text)
+		return Pattern{}, api.ErrPattern, len(text)
 	}
-	return api.OK, 0
+	return r.pattern, api.OK, 0
 }
 
 // take reads one byte, and tells whether it can stand there.
@@ -45,7 +67,7 @@ func (r *reader) take(b byte) bool {
 	switch r.ahead {
 	case nothing, barredKind:
 		return r.takeStep(b)
-	case step:
+	case stepKind:
 		return r.takeBehindStep(b)
 	case barSign:
 		return r.takeBarredKind(b)
@@ -56,17 +78,19 @@ func (r *reader) take(b byte) bool {
 }
 
 func (r *reader) takeStep(b byte) bool {
-	if !isLetter(b) || r.steps >= api.MaxSteps {
+	if !isLetter(b) || len(r.pattern.steps) >= api.MaxSteps {
 		return false
 	}
-	r.steps++
-	r.ahead = step
+	r.pattern.steps = append(r.pattern.steps, step{kind: int(b), barred: r.barred})
+	r.barred = noKind
+	r.ahead = stepKind
 	return true
 }
 
 func (r *reader) takeBehindStep(b byte) bool {
 	switch b {
 	case '=':
+		r.pattern.same = true
 		r.ahead = sameSign
 		return true
 	case '@':
@@ -79,7 +103,7 @@ func (r *reader) takeBehindStep(b byte) bool {
 
 // takeBarSign refuses the sign behind the last step that may be: no step could follow it.
 func (r *reader) takeBarSign() bool {
-	if r.steps >= api.MaxSteps {
+	if len(r.pattern.steps) >= api.MaxSteps {
 		return false
 	}
 	r.ahead = barSign
@@ -90,6 +114,7 @@ func (r *reader) takeBarredKind(b byte) bool {
 	if !isLetter(b) {
 		return false
 	}
+	r.barred = int(b)
 	r.ahead = barredKind
 	return true
 }
@@ -106,11 +131,11 @@ func (r *reader) takeDigit(b byte) bool {
 	if b < '0' || b > '9' || r.digits >= api.MaxDigits {
 		return false
 	}
-	window := 10*r.window + int(b-'0')
+	window := 10*r.pattern.window + int(b-'0')
 	if window > api.MaxTime {
 		return false
 	}
-	r.window = window
+	r.pattern.window = window
 	r.digits++
 	r.ahead = digit
 	return true
